@@ -1,7 +1,7 @@
 """The kinds of values that all parts of the package ask for [2, 3, 31]."""
 
 _LETTERS = "abcdefghijklmnopqrstuvwxyz"
-_SIGNS = "abcdefghijklmnopqrstuvwxyz0123456789-"
+NAME_SIGNS = "abcdefghijklmnopqrstuvwxyz0123456789-"
 
 
 def is_list(value):
@@ -19,11 +19,16 @@ def is_count(value):
     return is_integer(value) and value >= 0
 
 
+def is_positive(value):
+    """Tell whether any value is an integer from 1 on, as lengths are."""
+    return is_integer(value) and value >= 1
+
+
 def is_file_name(value):
     """Tell whether any value is a text of 1 to 24 small letters, digits and hyphens."""
     if not isinstance(value, str) or not 1 <= len(value) <= 24:
         return False
-    return all([sign in _SIGNS for sign in value])
+    return all([sign in NAME_SIGNS for sign in value])
 
 
 def is_word(value):

@@ -3,7 +3,7 @@
 import inspect
 import unittest
 
-from everygrain import disks, errors, folds, octets, packs, ratios, series, ways
+from everygrain import deeds, disks, errors, folds, grains, layers, octets, packs, plain, ratios, series, ways
 
 FUNCTIONS = {
     octets: {"is_octets": "(value)", "number_octets": "(count)", "signed_octets": "(value)", "text_octets": "(text)",
@@ -15,7 +15,10 @@ FUNCTIONS = {
             "is_row_fold": "(value)", "points_of": "(fold)", "joined": "(one, other)", "beside": "(one, other)",
             "mean": "(fold)", "delta": "(fold)", "rate": "(fold)"},
     ways: {"told_in": "(values, *, way=0)", "pack_values": "(values)", "unpack_values": "(reader, count)"},
-    packs: {"pack_times": "(times)", "unpack_times": "(reader)", "pack": "(points)", "unpack": "(octets)"}}
+    packs: {"pack_times": "(times)", "unpack_times": "(reader)", "pack": "(points)", "unpack": "(octets)"},
+    deeds: {"is_deed": "(value)"},
+    layers: {"laid_at": "(layers, series, time)", "laid": "(layers, series, low, high)",
+             "merged": "(older, newer, deepest=False)", "above": "(layer, edge)"}}
 
 METHODS = {
     octets.Reader: {"__init__": "(self, octets)", "left": "(self)", "copied": "(self)", "take": "(self, count)",
@@ -23,7 +26,18 @@ METHODS = {
     disks.Disk: {"append": "(self, name, octets)", "sync": "(self, name)", "drop": "(self, name)",
                  "read": "(self, name)", "synced": "(self, name)", "names": "(self)", "limit": "(self, count)",
                  "left": "(self)", "remains": "(self, choice)", "copied": "(self)", "__eq__": "(self, other)"},
-    series.Series: {"__init__": "(self, name, tags=())", "text": "(self)", "__eq__": "(self, other)"}}
+    series.Series: {"__init__": "(self, name, tags=())", "text": "(self)", "__eq__": "(self, other)"},
+    grains.Rules: {"__init__": "(self, rows)", "__len__": "(self)", "__eq__": "(self, other)", "length": "(self, grain)",
+                   "keep": "(self, grain)", "step": "(self, grain)", "edge": "(self, grain, clock)",
+                   "stands": "(self, grain, time, clock)", "gone_from": "(self, grain, time)",
+                   "cell": "(self, grain, time)", "teller": "(self, low, step, clock)",
+                   "untold_from": "(self, low, step)", "pieces": "(self, low, step, clock)"},
+    plain.Plain: {"__init__": "(self, rules)", "do": "(self, deed)", "rules": "(self)", "clock": "(self)",
+                  "done": "(self)", "series": "(self)", "points": "(self, series, low, high)",
+                  "folds": "(self, series, low, high, step)"},
+    layers.Layer: {"put": "(self, series, time, value)", "take": "(self, series, low, high)",
+                   "look": "(self, series, time)", "points": "(self, series)", "taken": "(self, series)",
+                   "series": "(self)", "is_empty": "(self)", "copied": "(self)", "__eq__": "(self, other)"}}
 
 
 class InterfaceTest(unittest.TestCase):
@@ -39,7 +53,7 @@ class InterfaceTest(unittest.TestCase):
             for name, arguments in methods.items():
                 self.assertEqual(str(inspect.signature(vars(kind)[name])), arguments, name)
         modules = [kind.__module__ for kind in METHODS]
-        self.assertEqual(modules, ["everygrain.octets", "everygrain.disks", "everygrain.series"])
+        self.assertEqual(modules, ["everygrain." + name for name in "octets disks series grains plain layers".split()])
 
     def test_errors_are_defined_in_their_file(self):
         for value in vars(errors).values():
@@ -48,6 +62,7 @@ class InterfaceTest(unittest.TestCase):
 
     def test_attributes_are_set(self):
         self.assertEqual(vars(series.Series("a", {"b": "c"})), {"name": "a", "tags": (("b", "c"),)})
+        self.assertEqual(vars(grains.Rules([(1, 8), (4, None)])), {"rows": ((1, 8), (4, None))})
 
     def test_kinds_of_values(self):
         self.assertIs(type(folds.fold([(1, 2)])), tuple)
@@ -59,6 +74,13 @@ class InterfaceTest(unittest.TestCase):
         for told in (octets.Reader((1, 2)).take(2), disks.Disk().names(), series.in_order(()), series.grouped((), "a"),
                      folds.points_of(None), ways.told_in(()), packs.pack_times(()), packs.pack(())):
             self.assertIs(type(told), list)
+        rules, layer, one = grains.Rules([(1, 8)]), layers.Layer(), series.Series("a")
+        for told in (rules.pieces(0, 1, 0), plain.Plain(rules).series(), plain.Plain(rules).points(one, 0, 1),
+                     plain.Plain(rules).folds(one, 0, 1, 1), layer.points(one), layer.taken(one), layer.series(),
+                     layers.laid((), one, 0, 1)):
+            self.assertIs(type(told), list)
+        self.assertIs(type(layer.look(one, 0)), tuple)
+        self.assertIs(type(rules.pieces(0, 1, 0)[0]), tuple)
 
 
 if __name__ == "__main__":
