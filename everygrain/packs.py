@@ -71,11 +71,17 @@ def pack(points):
     return pack_times([time for time, value in points]) + pack_values([value for time, value in points])
 
 
+def read_points(reader):
+    """Read a row of points, told just as `pack` tells it."""
+    times = unpack_times(reader)
+    values = unpack_values(reader, len(times))
+    return list(zip(times, values))
+
+
 def unpack(octets):
     """The row of points of which these octets are the pack."""
     reader = Reader(octets)
-    times = unpack_times(reader)
-    values = unpack_values(reader, len(times))
+    points = read_points(reader)
     if reader.left() > 0:
         raise Malformed()
-    return list(zip(times, values))
+    return points

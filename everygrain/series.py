@@ -3,7 +3,7 @@
 from everygrain.errors import InvalidName, InvalidSeries, InvalidSeriesList, InvalidTags, InvalidText
 from everygrain.kinds import is_list, is_name, is_word
 
-_MOST_TAGS = 6
+MOST_TAGS = 6
 
 
 class Series:
@@ -37,7 +37,7 @@ def _pairs_of(tags):
 
 
 def _are_tags(pairs):
-    if pairs is None or len(pairs) > _MOST_TAGS:
+    if pairs is None or len(pairs) > MOST_TAGS:
         return False
     if not all([_is_tag(pair) for pair in pairs]):
         return False

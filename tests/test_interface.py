@@ -3,7 +3,9 @@
 import inspect
 import unittest
 
-from everygrain import deeds, disks, errors, folds, grains, layers, octets, packs, plain, ratios, series, ways
+from everygrain import (
+    blocks, deeds, disks, errors, folds, grains, layers, logs, octets, packs, plain, ratios, rolls, selections, series,
+    ways)
 
 FUNCTIONS = {
     octets: {"is_octets": "(value)", "number_octets": "(count)", "signed_octets": "(value)", "text_octets": "(text)",
@@ -18,7 +20,13 @@ FUNCTIONS = {
     packs: {"pack_times": "(times)", "unpack_times": "(reader)", "pack": "(points)", "unpack": "(octets)"},
     deeds: {"is_deed": "(value)"},
     layers: {"laid_at": "(layers, series, time)", "laid": "(layers, series, low, high)",
-             "merged": "(older, newer, deepest=False)", "above": "(layer, edge)"}}
+             "merged": "(older, newer, deepest=False)", "above": "(layer, edge)"},
+    blocks: {"is_cells": "(length, value)", "layer_block": "(layer)", "cells_block": "(length, cells)",
+             "read_block": "(octets)", "directory": "(octets)", "read_part": "(octets, series)"},
+    logs: {"deed_record": "(deed)", "read_deed": "(record)", "deeds_of": "(octets)"},
+    rolls: {"read_roll": "(record)", "file_name": "(kind, number)", "number_of": "(name)", "roll_of": "(octets)",
+            "newest_roll": "(disk)", "next_number": "(disk, kind)"},
+    selections: {"has": "(selection, series)", "chosen": "(selection, series)", "parting": "(one, other)"}}
 
 METHODS = {
     octets.Reader: {"__init__": "(self, octets)", "left": "(self)", "copied": "(self)", "take": "(self, count)",
@@ -37,7 +45,10 @@ METHODS = {
                   "folds": "(self, series, low, high, step)"},
     layers.Layer: {"put": "(self, series, time, value)", "take": "(self, series, low, high)",
                    "look": "(self, series, time)", "points": "(self, series)", "taken": "(self, series)",
-                   "series": "(self)", "is_empty": "(self)", "copied": "(self)", "__eq__": "(self, other)"}}
+                   "series": "(self)", "is_empty": "(self)", "copied": "(self)", "__eq__": "(self, other)"},
+    rolls.Roll: {"__init__": "(self, done, clock, rules, log, layers, cells, views)", "files": "(self)",
+                 "record": "(self)", "__eq__": "(self, other)"},
+    selections.Selection: {"__init__": "(self, text)", "text": "(self)", "__eq__": "(self, other)"}}
 
 
 class InterfaceTest(unittest.TestCase):
@@ -53,7 +64,8 @@ class InterfaceTest(unittest.TestCase):
             for name, arguments in methods.items():
                 self.assertEqual(str(inspect.signature(vars(kind)[name])), arguments, name)
         modules = [kind.__module__ for kind in METHODS]
-        self.assertEqual(modules, ["everygrain." + name for name in "octets disks series grains plain layers".split()])
+        self.assertEqual(modules, [
+            "everygrain." + name for name in "octets disks series grains plain layers rolls selections".split()])
 
     def test_errors_are_defined_in_their_file(self):
         for value in vars(errors).values():
@@ -63,6 +75,9 @@ class InterfaceTest(unittest.TestCase):
     def test_attributes_are_set(self):
         self.assertEqual(vars(series.Series("a", {"b": "c"})), {"name": "a", "tags": (("b", "c"),)})
         self.assertEqual(vars(grains.Rules([(1, 8), (4, None)])), {"rows": ((1, 8), (4, None))})
+        rules = grains.Rules([(1, 8)])
+        self.assertEqual(vars(rolls.Roll(1, 2, rules, 3, [4], [], [("v", "x")])), {
+            "done": 1, "clock": 2, "rules": rules, "log": 3, "layers": (4,), "cells": (), "views": (("v", "x"),)})
 
     def test_kinds_of_values(self):
         self.assertIs(type(folds.fold([(1, 2)])), tuple)
@@ -79,6 +94,11 @@ class InterfaceTest(unittest.TestCase):
                      plain.Plain(rules).folds(one, 0, 1, 1), layer.points(one), layer.taken(one), layer.series(),
                      layers.laid((), one, 0, 1)):
             self.assertIs(type(told), list)
+        block, roll = blocks.layer_block(layer), rolls.Roll(0, 0, rules, 1, (), (), ())
+        for told in (block, blocks.cells_block(1, {}), blocks.directory(block), logs.deed_record(("clock", 1)),
+                     roll.files(), roll.record(), selections.chosen(selections.Selection("all"), ())):
+            self.assertIs(type(told), list)
+        self.assertIs(type(blocks.read_block(block)[1]), layers.Layer)
         self.assertIs(type(layer.look(one, 0)), tuple)
         self.assertIs(type(rules.pieces(0, 1, 0)[0]), tuple)
 

@@ -2,7 +2,7 @@
 
 import unittest
 
-from everygrain.kinds import is_count, is_file_name, is_integer, is_list, is_name, is_word
+from everygrain.kinds import is_count, is_file_name, is_integer, is_list, is_name, is_positive, is_word
 from tests.support import odd_values
 
 
@@ -13,9 +13,12 @@ class KindsTest(unittest.TestCase):
             self.assertIs(is_count(value), True)
             self.assertIs(is_integer(-value), True)
             self.assertIs(is_count(-1 - value), False)
+            self.assertIs(is_positive(value), value != 0)
+            self.assertIs(is_positive(-value), False)
         for value in odd_values(int):
             self.assertIs(is_integer(value), False)
             self.assertIs(is_count(value), False)
+            self.assertIs(is_positive(value), False)
 
     def test_names_words_and_file_names(self):
         told = {"a": (True, True, True), "a" * 24: (True, True, True), "a" * 25: (False, False, False),
