@@ -122,7 +122,7 @@ def read_roll(record):
 
 
 def _ask_kind(kind):
-    if not isinstance(kind, str) or kind not in _KINDS:
+    if kind not in _KINDS:
         raise InvalidKind(kind)
 
 

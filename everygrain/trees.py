@@ -1,7 +1,6 @@
 """The trees of selections: how they are read, told, and what they mean [141, 142].
 
 A tree is ("all",), or ("=", key, word) with None for any word, or ("!", tree), or ("&", trees), or ("|", trees).
-No tree among those of an "&" or a "|" is of the same kind, so equal plainest texts have equal trees.
 """
 
 from everygrain.errors import Malformed
@@ -19,20 +18,13 @@ def _read_ands(parts):
 
 def _read_row(parts, sign, read_item):
     """Read the selections that stand with one sign between them."""
-    trees = _told_with(sign, read_item(parts))
+    trees = [read_item(parts)]
     while parts.ahead() == sign:
         parts.read()
-        trees = trees + _told_with(sign, read_item(parts))
+        trees.append(read_item(parts))
     if len(trees) == 1:
         return trees[0]
     return sign, trees
-
-
-def _told_with(sign, tree):
-    """The trees that stand in a row with this sign in the place of one: those of its own row need no brackets."""
-    if tree[0] == sign:
-        return tree[1]
-    return [tree]
 
 
 def _read_one(parts):
@@ -75,7 +67,7 @@ def plainest_text(tree):
 
 
 def _text_within(tree, signs):
-    """The text of a tree within another one, in brackets if it is of one of these kinds."""
+    """The text of a tree within another one, in brackets if it is of one of the kinds that need them there."""
     if tree[0] in signs:
         return "(" + plainest_text(tree) + ")"
     return plainest_text(tree)

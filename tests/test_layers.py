@@ -114,7 +114,7 @@ class PlainLayer:
 
 
 def state_of(layer):
-    return [(series.text(), layer.points(series), layer.taken(series)) for series in layer.series()]
+    return [(series.text(), tuple(layer.points(series)), tuple(layer.taken(series))) for series in layer.series()]
 
 
 class LayerTest(unittest.TestCase):

@@ -11,7 +11,8 @@ from everygrain.series import Series, in_order, read_series
 from tests.support import Draw, check_error, check_examples, check_given, odd_values
 
 TEXTS = ["load{host=a,zone=x}", "load{host=a}", "load{host=b}", "load{}", "heat{zone=x}", "heat{host=a,zone=y}", "a{all=1}",
-         "name{of=by}", "heat{}", "up{host=9,zone=9}", "a{all=x,host=c}"]
+         "name{of=by}", "heat{}", "up{host=9,zone=9}", "a{all=x,host=c}",
+         "up{host=all}"]
 SOME = [read_series(text) for text in TEXTS]
 LONG = "k" * 24
 
@@ -136,7 +137,7 @@ def plainly_plainest(text):
 
 def drawn_test(draw):
     key = draw.one_of(["host", "zone", "name", "all", "of"])
-    return draw.one_of(["all", f"{key}=*"] + [f"{key}={word}" for word in ("a", "x", "load", "9", "by")])
+    return draw.one_of(["all", f"{key}=*"] + [f"{key}={word}" for word in ("a", "x", "load", "9", "by", "all")])
 
 
 def drawn_text(draw, depth):
@@ -279,7 +280,7 @@ class HasTest(unittest.TestCase):
     def test_tests(self):
         for text, wanted in {"all": TEXTS, "!all": [], "host=a": [TEXTS[0], TEXTS[1], TEXTS[5]], "name=9": [],
                              "host=9": [TEXTS[9]], "name=load": TEXTS[:4], "name=*": TEXTS, "!name=*": [],
-                             "all=*": [TEXTS[6], TEXTS[10]], "all=x": [TEXTS[10]], "rack=*": [], "!rack=r": TEXTS,
+                             "all=*": [TEXTS[6], TEXTS[10]], "all=x": [TEXTS[10]], "host=all": [TEXTS[11]], "rack=*": [], "!rack=r": TEXTS,
                              "zone=*": [TEXTS[0], TEXTS[4], TEXTS[5], TEXTS[9]], "name=name": [TEXTS[7]],
                              "!host=* & !zone=*": [TEXTS[3], TEXTS[6], TEXTS[7], TEXTS[8]], "of=by": [TEXTS[7]],
                              "load=*": [], "host=host": []}.items():
@@ -364,7 +365,8 @@ class PartingTest(unittest.TestCase):
     def test_that_mean_unlike_series(self):
         for one, other in (("all", "!all"), ("all", "host=*"), ("host=a", "host=b"), ("host=a", "zone=a"), ("all", "name=load"),
                            ("!all", "name=load"), ("host=a & zone=x", "host=a"), ("name=a", "name=b"), ("host=9", "!all"),
-                           ("name=a", "host=a"), ("host=*", "zone=*"), ("all=a", "all"), ("!host=a", "!host=b")):
+                           ("name=a", "host=a"), ("host=*", "zone=*"), ("all=a", "all"), ("!host=a", "!host=b"),
+                           ("host=all", "all"), ("host=all", "!all"), ("host=all", "all=all")):
             self.check_parting(one, other, True)
 
     def test_that_differ_only_at_a_word_that_no_test_has(self):
