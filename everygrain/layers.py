@@ -133,11 +133,24 @@ def laid(layers, series, low, high):
     _ask_layers(layers)
     ask_series(series)
     ask_stretch(low, high)
+    return [(time, value) for time, value in all_laid(layers, series) if low <= time < high]
+
+
+def all_laid(layers, series):
+    """All points of a series that stand in a row of layers, ascending."""
     values = {}
     for layer in layers:
         values = _untaken(list(values.items()), layer.taken(series))
         values.update(dict(layer.points(series)))
-    return [(time, values[time]) for time in sorted(values) if low <= time < high]
+    return [(time, values[time]) for time in sorted(values)]
+
+
+def series_of(layers):
+    """The series that have a point or a stretch in any of some layers, in order."""
+    series = []
+    for layer in layers:
+        series.extend(layer.series())
+    return in_order(series)
 
 
 def merged(older, newer, deepest=False):

@@ -2,6 +2,8 @@
 
 from everygrain.kinds import NAME_SIGNS
 
+_DIGITS = "0123456789"
+
 
 def parts_of(text):
     """The parts of a text, in order; blanks are none, but part two runs."""
@@ -18,6 +20,15 @@ def parts_of(text):
         if sign != " ":
             parts.append(sign)
     return parts
+
+
+def count_of(part):
+    """The count that a text tells by decimal digits without a 0 in front, or None for any other text [151]."""
+    if part == "" or not all([sign in _DIGITS for sign in part]):
+        return None
+    if part[0] == "0" and part != "0":
+        return None
+    return int(part)
 
 
 class PartReader:
@@ -38,3 +49,11 @@ class PartReader:
         part = self.ahead()
         self._at = self._at + 1
         return part
+
+    def place(self):
+        """The number of the parts that are read."""
+        return self._at
+
+    def following(self, count):
+        """A reader of its own of so many of the next parts, or of all that are left if there are fewer."""
+        return PartReader(self._parts[self._at:self._at + count])

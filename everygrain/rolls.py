@@ -11,7 +11,7 @@ from everygrain.octets import Reader, frames, number_octets, text_octets
 _KINDS = ("roll", "log", "block")
 _MOST_DIGITS = 18
 _GREATEST_NUMBER = 999999999999999999
-_MOST_VIEWS = 8
+MOST_VIEWS = 8
 
 
 def _is_file_number(value):
@@ -38,7 +38,7 @@ def _numbers_of(layers, cells):
 
 
 def _are_views(views):
-    if not is_list(views) or len(views) > _MOST_VIEWS or not all([_is_view_row(row) for row in views]):
+    if not is_list(views) or len(views) > MOST_VIEWS or not all([_is_view_row(row) for row in views]):
         return False
     return all([row[0] < following[0] for row, following in zip(views, views[1:])])
 

@@ -7,7 +7,7 @@ from everygrain.parts import PartReader, parts_of
 from everygrain.series import MOST_TAGS, Series, in_order
 from everygrain.trees import means, plainest_text, read_tree, tests_of
 
-_MOST_PARTS = 40
+MOST_PARTS = 40
 _LONGEST_WORD = 24
 
 
@@ -30,7 +30,7 @@ def _tree_of(text):
     if not isinstance(text, str):
         raise InvalidSelection(text)
     parts = parts_of(text)
-    if len(parts) > _MOST_PARTS:
+    if len(parts) > MOST_PARTS:
         raise InvalidSelection(text)
     reader = PartReader(parts)
     try:
