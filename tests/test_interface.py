@@ -4,8 +4,8 @@ import inspect
 import unittest
 
 from everygrain import (
-    blocks, deeds, disks, errors, folds, grains, layers, logs, octets, packs, plain, ratios, rolls, selections, series,
-    ways)
+    answers, blocks, deeds, desk, disks, errors, examiner, folds, grains, indexes, layers, logs, octets, packs, plain,
+    queries, ratios, rolls, selections, series, snapshots, stores, views, ways)
 
 FUNCTIONS = {
     octets: {"is_octets": "(value)", "number_octets": "(count)", "signed_octets": "(value)", "text_octets": "(text)",
@@ -26,7 +26,11 @@ FUNCTIONS = {
     logs: {"deed_record": "(deed)", "read_deed": "(record)", "deeds_of": "(octets)"},
     rolls: {"read_roll": "(record)", "file_name": "(kind, number)", "number_of": "(name)", "roll_of": "(octets)",
             "newest_roll": "(disk)", "next_number": "(disk, kind)"},
-    selections: {"has": "(selection, series)", "chosen": "(selection, series)", "parting": "(one, other)"}}
+    selections: {"has": "(selection, series)", "chosen": "(selection, series)", "parting": "(one, other)"},
+    answers: {"ask": "(source, query)", "told": "(rows)"},
+    snapshots: {"changed": "(one, other, low, high)", "deeds_between": "(one, other, low, high)"},
+    examiner: {"examine": "(disk)", "meaning": "(disk)"},
+    desk: {"read_desk": "(rules, lines)"}}
 
 METHODS = {
     octets.Reader: {"__init__": "(self, octets)", "left": "(self)", "copied": "(self)", "take": "(self, count)",
@@ -48,7 +52,23 @@ METHODS = {
                    "series": "(self)", "is_empty": "(self)", "copied": "(self)", "__eq__": "(self, other)"},
     rolls.Roll: {"__init__": "(self, done, clock, rules, log, layers, cells, views)", "files": "(self)",
                  "record": "(self)", "__eq__": "(self, other)"},
-    selections.Selection: {"__init__": "(self, text)", "text": "(self)", "__eq__": "(self, other)"}}
+    selections.Selection: {"__init__": "(self, text)", "text": "(self)", "__eq__": "(self, other)"},
+    queries.Query: {"__init__": "(self, text)", "text": "(self)", "windows": "(self)", "__eq__": "(self, other)"},
+    views.View: {"__init__": "(self, text)", "text": "(self)", "step": "(self)", "query": "(self, low, high)",
+                 "__eq__": "(self, other)"},
+    indexes.Index: {"__init__": "(self)", "put": "(self, series)", "drop": "(self, series)", "series": "(self)",
+                    "chosen": "(self, selection)", "of_tag": "(self, key, word)", "words": "(self, key)"},
+    snapshots.Snapshot: {"points": "(self, series, low, high)", "folds": "(self, series, low, high, step)",
+                         "series": "(self)", "ask": "(self, query)", "views": "(self)",
+                         "read_view": "(self, name, low, high)", "rules": "(self)", "clock": "(self)",
+                         "done": "(self)"},
+    stores.Store: {"__init__": "(self, disk, rules=None)", "do": "(self, deed)", "sync": "(self)", "done": "(self)",
+                   "synced": "(self)", "clock": "(self)", "rules": "(self)", "points": "(self, series, low, high)",
+                   "folds": "(self, series, low, high, step)", "series": "(self)", "seal": "(self)",
+                   "merge": "(self, last=False)", "expire": "(self)", "blocks": "(self)", "weight": "(self)",
+                   "ask": "(self, query)", "views": "(self)", "read_view": "(self, name, low, high)",
+                   "fresh": "(self, name)", "snapshot": "(self)"},
+    desk.Desk: {"__init__": "(self, rules)", "do": "(self, line)", "journal": "(self)", "disk": "(self)"}}
 
 
 class InterfaceTest(unittest.TestCase):
@@ -64,8 +84,8 @@ class InterfaceTest(unittest.TestCase):
             for name, arguments in methods.items():
                 self.assertEqual(str(inspect.signature(vars(kind)[name])), arguments, name)
         modules = [kind.__module__ for kind in METHODS]
-        self.assertEqual(modules, [
-            "everygrain." + name for name in "octets disks series grains plain layers rolls selections".split()])
+        names = "octets disks series grains plain layers rolls selections queries views indexes snapshots stores desk"
+        self.assertEqual(modules, ["everygrain." + name for name in names.split()])
 
     def test_errors_are_defined_in_their_file(self):
         for value in vars(errors).values():
