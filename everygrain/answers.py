@@ -2,6 +2,7 @@
 
 from math import lcm
 
+from everygrain.asking import ask_told
 from everygrain.errors import InvalidQuery
 from everygrain.folds import beside, delta, mean, rate
 from everygrain.queries import PlainAsk, Query
@@ -20,9 +21,8 @@ def ask(source, query):
     if not isinstance(query, Query):
         raise InvalidQuery(query)
     low, high, step = query.windows()
-    for start in range(low, high, step):
-        # A window that is not told raises Gone here, whichever series are meant.
-        source.rules().teller(start, step, source.clock())
+    # Whichever series are meant, also if none is.
+    ask_told(source.rules(), source.clock(), low, high, step)
     return _rows_of(query.asked(), source)
 
 

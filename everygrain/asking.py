@@ -1,6 +1,6 @@
 """What several parts ask of the values that are handed in, and the errors that they raise for others."""
 
-from everygrain.errors import InvalidSeries, InvalidTime, InvalidWindow, InvalidWindows
+from everygrain.errors import Gone, InvalidSeries, InvalidTime, InvalidWindow, InvalidWindows
 from everygrain.kinds import is_count, is_positive
 from everygrain.series import Series
 
@@ -33,3 +33,16 @@ def ask_windows(low, high, step):
 
 def _tiles(distance, step):
     return 0 <= distance <= _MOST_WINDOWS * step and distance % step == 0
+
+
+def ask_standing(rules, clock, low, high):
+    """Ask that all times from low on and ahead of high stand at grain 0."""
+    if low < high and not rules.stands(0, low, clock):
+        raise Gone(low, 0)
+
+
+def ask_told(rules, clock, low, high, step):
+    """Ask that each of the windows from low on and ahead of high is told."""
+    for start in range(low, high, step):
+        # It raises Gone for the first one that is not.
+        rules.teller(start, step, clock)

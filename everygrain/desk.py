@@ -2,10 +2,8 @@
 
 from everygrain.answers import told
 from everygrain.disks import Disk
-from everygrain.errors import (
-    ClockBack, Gone, InvalidLines, InvalidRules, InvalidWindows, NoView, PowerCut, TooManyViews)
+from everygrain.errors import ClockBack, Gone, InvalidLines, InvalidWindows, NoView, PowerCut, TooManyViews
 from everygrain.examiner import examine
-from everygrain.grains import Rules
 from everygrain.kinds import is_list
 from everygrain.lines import read_line
 from everygrain.stores import Store
@@ -97,10 +95,9 @@ class Desk:
     """A desk with a new disk and a store on it."""
 
     def __init__(self, rules):
-        if not isinstance(rules, Rules):
-            raise InvalidRules(rules)
         self._rules = rules
         self._lines = []
+        # The store asks for rules on a new disk.
         self._start(Disk())
 
     def do(self, line):

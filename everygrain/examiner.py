@@ -3,7 +3,7 @@
 from everygrain.contents import Contents
 from everygrain.errors import Broken
 from everygrain.layers import all_laid, series_of
-from everygrain.rolls import newest_roll, number_of, roll_of
+from everygrain.rolls import file_name, newest_roll, numbers_on, roll_of
 
 
 def examine(disk):
@@ -34,9 +34,8 @@ def meaning(disk):
 
 def _wrong_rolls(disk):
     """The names of the roll files that do not count, ascending by number."""
-    told = [(number_of(name), name) for name in disk.names()]
-    rows = sorted([(place[1], name) for place, name in told if place is not None and place[0] == "roll"])
-    return [name for _, name in rows if roll_of(disk.read(name)) is None]
+    names = [file_name("roll", number) for number in numbers_on(disk, "roll")]
+    return [name for name in names if roll_of(disk.read(name)) is None]
 
 
 def _strays(names):

@@ -6,15 +6,14 @@ from everygrain.layers import above, all_laid, series_of
 
 def expired(rules, clock, layers, cells):
     """The layers and the cells behind expiry at a clock, as two lists; what is not below its edge stays as it is."""
-    edge = rules.edge(0, clock)
-    moving = _folded_points(layers, edge)
+    first_edge = rules.edge(0, clock)
+    moving = _folded_points(layers, first_edge)
     stay = []
     for grain in range(1, len(rules)):
         mine = _put_in(moving, cells[grain - 1], rules.length(grain))
         edge = rules.edge(grain, clock)
         moving = _below(mine, edge)
         stay.append(_from(mine, edge))
-    first_edge = rules.edge(0, clock)
     return [above(layer, first_edge) for layer in layers], stay
 
 
@@ -22,9 +21,8 @@ def _folded_points(layers, edge):
     """The points below an edge, each one as the fold of itself: a dict from texts to lists of (time, fold)."""
     moving = {}
     for series in series_of(layers):
-        rows = [(time, fold([(time, value)])) for time, value in all_laid(layers, series) if time < edge]
-        if len(rows) > 0:
-            moving[series.text()] = rows
+        points = [point for point in all_laid(layers, series) if point[0] < edge]
+        moving[series.text()] = [(time, fold([(time, value)])) for time, value in points]
     return moving
 
 

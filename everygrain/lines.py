@@ -1,6 +1,6 @@
 """Lines: what a desk takes [174]."""
 
-from everygrain.errors import InvalidLine, InvalidQuery, InvalidText, Malformed
+from everygrain.errors import InvalidLine, InvalidQuery, InvalidText
 from everygrain.kinds import is_name
 from everygrain.parts import count_of
 from everygrain.queries import Query
@@ -53,7 +53,7 @@ def _read_item(kind, item):
         return _value_of(item)
     try:
         return _read_text(kind, item)
-    except (InvalidText, InvalidQuery, Malformed):
+    except (InvalidText, InvalidQuery):
         return None
 
 
@@ -68,7 +68,7 @@ def _read_text(kind, item):
         return item
     if kind == "last" and item == "last":
         return item
-    raise Malformed()
+    return None
 
 
 def _value_of(item):

@@ -1,5 +1,6 @@
 """The parts of a text: runs of small letters, digits and hyphens, and other signs one by one [141]."""
 
+from everygrain.errors import Malformed
 from everygrain.kinds import NAME_SIGNS
 
 _DIGITS = "0123456789"
@@ -57,3 +58,17 @@ class PartReader:
     def following(self, count):
         """A reader of its own of so many of the next parts, or of all that are left if there are fewer."""
         return PartReader(self._parts[self._at:self._at + count])
+
+
+def read_whole(text, most, read_all):
+    """What a function reads of the parts of a text; Malformed if some are left, or if there are more than the most."""
+    if not isinstance(text, str):
+        raise Malformed()
+    parts = parts_of(text)
+    if len(parts) > most:
+        raise Malformed()
+    reader = PartReader(parts)
+    told = read_all(reader)
+    if reader.ahead() is not None:
+        raise Malformed()
+    return told

@@ -1,8 +1,8 @@
 """The plain list: all points that were put and not taken, kept for ever and folded for each question [82 to 86]."""
 
-from everygrain.asking import ask_series, ask_stretch, ask_windows
+from everygrain.asking import ask_series, ask_standing, ask_stretch, ask_told, ask_windows
 from everygrain.deeds import ask_deed
-from everygrain.errors import Gone, InvalidRules
+from everygrain.errors import InvalidRules
 from everygrain.folds import fold
 from everygrain.grains import Rules
 from everygrain.series import in_order
@@ -53,17 +53,15 @@ class Plain:
         """The points of a series from low on and ahead of high."""
         ask_series(series)
         ask_stretch(low, high)
-        if low < high and not self._rules.stands(0, low, self._clock):
-            raise Gone(low, 0)
+        ask_standing(self._rules, self._clock, low, high)
         return self._between(series, low, high)
 
     def folds(self, series, low, high, step):
         """The folds of the windows of one length from low on and ahead of high."""
         ask_series(series)
         ask_windows(low, high, step)
-        # Each window that is not told raises Gone here.
-        tellers = [self._rules.teller(start, step, self._clock) for start in range(low, high, step)]
-        rows = [[] for _ in tellers]
+        ask_told(self._rules, self._clock, low, high, step)
+        rows = [[] for _ in range(low, high, step)]
         for time, value in self._between(series, low, high):
             rows[(time - low) // step].append((time, value))
         return [fold(row) for row in rows]

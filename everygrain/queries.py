@@ -2,7 +2,7 @@
 
 from everygrain.asking import ask_windows
 from everygrain.errors import InvalidQuery, InvalidWindows, Malformed
-from everygrain.parts import PartReader, parts_of
+from everygrain.parts import read_whole
 from everygrain.phrases import Phrase, read_count, read_fill, read_function, read_key, read_selection, read_word
 
 _MOST_PARTS = 120
@@ -66,19 +66,10 @@ class Query:
 
 
 def _asked_by(text):
-    if not isinstance(text, str):
-        raise InvalidQuery(text)
-    parts = parts_of(text)
-    if len(parts) > _MOST_PARTS:
-        raise InvalidQuery(text)
-    reader = PartReader(parts)
     try:
-        asked = _read_query(reader)
+        return read_whole(text, _MOST_PARTS, _read_query)
     except (Malformed, InvalidWindows):
         raise InvalidQuery(text) from None
-    if reader.ahead() is not None:
-        raise InvalidQuery(text)
-    return asked
 
 
 def _read_query(parts):

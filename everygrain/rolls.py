@@ -166,7 +166,7 @@ def _ask_disk(disk):
         raise InvalidDisk(disk)
 
 
-def _numbers_on(disk, kind):
+def numbers_on(disk, kind):
     """The numbers of all files of a kind, ascending."""
     told = [number_of(name) for name in disk.names()]
     return sorted([row[1] for row in told if row is not None and row[0] == kind])
@@ -175,7 +175,7 @@ def _numbers_on(disk, kind):
 def newest_roll(disk):
     """The number and the roll of the newest roll file that counts, or None."""
     _ask_disk(disk)
-    for number in reversed(_numbers_on(disk, "roll")):
+    for number in reversed(numbers_on(disk, "roll")):
         roll = roll_of(disk.read(file_name("roll", number)))
         if roll is not None:
             return number, roll
@@ -186,4 +186,4 @@ def next_number(disk, kind):
     """The number that the next file of a kind has."""
     _ask_disk(disk)
     _ask_kind(kind)
-    return max(_numbers_on(disk, kind), default=0) + 1
+    return max(numbers_on(disk, kind), default=0) + 1

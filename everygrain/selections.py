@@ -3,7 +3,7 @@
 from everygrain.asking import ask_series
 from everygrain.errors import InvalidSelection, Malformed
 from everygrain.kinds import is_name
-from everygrain.parts import PartReader, parts_of
+from everygrain.parts import read_whole
 from everygrain.series import MOST_TAGS, Series, in_order
 from everygrain.trees import means, plainest_text, read_tree, tests_of
 
@@ -27,19 +27,10 @@ class Selection:
 
 
 def _tree_of(text):
-    if not isinstance(text, str):
-        raise InvalidSelection(text)
-    parts = parts_of(text)
-    if len(parts) > MOST_PARTS:
-        raise InvalidSelection(text)
-    reader = PartReader(parts)
     try:
-        tree = read_tree(reader)
+        return read_whole(text, MOST_PARTS, read_tree)
     except Malformed:
         raise InvalidSelection(text) from None
-    if reader.ahead() is not None:
-        raise InvalidSelection(text)
-    return tree
 
 
 def _ask_selection(selection):

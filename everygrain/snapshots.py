@@ -1,8 +1,8 @@
 """Snapshots: what a store answers as it is at one moment, and what is unlike in two of them [166 to 168]."""
 
 from everygrain.answers import ask
-from everygrain.asking import ask_stretch
-from everygrain.errors import Gone, InvalidSnapshot
+from everygrain.asking import ask_standing, ask_stretch
+from everygrain.errors import InvalidSnapshot
 from everygrain.series import in_order
 
 
@@ -58,8 +58,7 @@ def changed(one, other, low, high):
         raise InvalidSnapshot(other)
     ask_stretch(low, high)
     for snapshot in (one, other):
-        if low < high and not snapshot.rules().stands(0, low, snapshot.clock()):
-            raise Gone(low, 0)
+        ask_standing(snapshot.rules(), snapshot.clock(), low, high)
     rows = []
     for series in in_order(one.series() + other.series()):
         values = dict(one.points(series, low, high))

@@ -1,17 +1,15 @@
 """States: what a store has besides its files, and how it answers [122, 123, 126, 162, 163]."""
 
 from everygrain.answers import ask
-from everygrain.asking import ask_series, ask_stretch, ask_windows
+from everygrain.asking import ask_series, ask_standing, ask_stretch, ask_told, ask_windows
 from everygrain.deeds import ask_deed
-from everygrain.errors import Gone, InvalidDeed, InvalidQuery, NoView, TooManyViews
+from everygrain.errors import InvalidDeed, InvalidQuery, NoView, TooManyViews
 from everygrain.folds import fold, joined
 from everygrain.kinds import is_name
 from everygrain.layers import Layer, all_laid, laid, series_of
 from everygrain.rolls import MOST_VIEWS
 from everygrain.series import in_order, read_series
 from everygrain.views import View
-
-_SIZES = {"view": 3, "unview": 2}
 
 
 class State:
@@ -110,17 +108,15 @@ class State:
         """The points of a series from low on and ahead of high."""
         ask_series(series)
         ask_stretch(low, high)
-        if low < high and not self._rules.stands(0, low, self._clock):
-            raise Gone(low, 0)
+        ask_standing(self._rules, self._clock, low, high)
         return laid(self._all_layers(), series, low, high)
 
     def folds(self, series, low, high, step):
         """The folds of the windows of one length from low on and ahead of high."""
         ask_series(series)
         ask_windows(low, high, step)
-        # Each window that is not told raises Gone here.
-        tellers = [self._rules.teller(start, step, self._clock) for start in range(low, high, step)]
-        parts = [[] for _ in tellers]
+        ask_told(self._rules, self._clock, low, high, step)
+        parts = [[] for _ in range(low, high, step)]
         for time, told in self._parts(series, low, high):
             parts[(time - low) // step].append(told)
         return [_joined_all(row) for row in parts]
@@ -142,7 +138,7 @@ def _is_of_views(value):
     """Tell whether any value has the form of a deed of views, whatever its name and its text are."""
     if not isinstance(value, tuple) or len(value) == 0:
         return False
-    return value[0] in ("view", "unview") and len(value) == _SIZES[value[0]]
+    return (value[0] == "view" and len(value) == 3) or (value[0] == "unview" and len(value) == 2)
 
 
 def _plainest_text(deed):

@@ -82,7 +82,8 @@ class Store:
         if not isinstance(last, bool):
             raise InvalidTruth(last)
         self.seal()
-        layers = self._state.layers
+        state = self._state
+        layers = state.layers
         if len(layers) < 2:
             return False
         first = 0
@@ -98,7 +99,7 @@ class Store:
             numbers.append(self._write_block(layer_block(layer)))
             layers.append(layer)
         self._write_roll(self._roll.log, numbers, self._roll.cells)
-        self._state.layers = layers
+        state.layers = layers
         return True
 
     def expire(self):

@@ -2,19 +2,21 @@
 
 from everygrain.asking import ask_windows
 from everygrain.errors import InvalidQuery, Malformed
-from everygrain.parts import PartReader, parts_of
+from everygrain.parts import read_whole
 from everygrain.phrases import Phrase, read_count, read_fill, read_function, read_key, read_selection
 from everygrain.queries import Query
 from everygrain.selections import has
 
 _LONGEST = 400
+# More than any view has.
+_MOST_PARTS = 120
 
 
 class View:
     """A view, made of any of its texts; no call changes it."""
 
     def __init__(self, text):
-        phrase, step = _read_view(text)
+        phrase, step = _view_by(text)
         self._phrase = phrase
         self._step = step
         self._text = phrase.around(f"every {step}")
@@ -42,19 +44,17 @@ class View:
         return has(self._phrase.selection, series)
 
 
-def _read_view(text):
+def _view_by(text):
     """The phrase and the step of the text of a view."""
-    if not isinstance(text, str):
-        raise InvalidQuery(text)
-    parts = PartReader(parts_of(text))
     try:
-        function = read_function(parts)
-        selection = read_selection(parts)
-        step = read_count(parts, "every", 1)
-        key = read_key(parts)
-        phrase = Phrase(function, selection, key, read_fill(parts))
+        return read_whole(text, _MOST_PARTS, _read_view)
     except Malformed:
         raise InvalidQuery(text) from None
-    if parts.ahead() is not None:
-        raise InvalidQuery(text)
-    return phrase, step
+
+
+def _read_view(parts):
+    function = read_function(parts)
+    selection = read_selection(parts)
+    step = read_count(parts, "every", 1)
+    key = read_key(parts)
+    return Phrase(function, selection, key, read_fill(parts)), step

@@ -156,6 +156,7 @@ class AnswersTest(Asked):
             ("ask (sum of all from 0 to 4 every 4)/(count of name=load from 0 to 4 every 4)", ". 11/3"),
             ("read v 0 8", "- - -", "a 7/2 -", "b 4 -"), ("fresh v", "0", "4"), ("put load{} 4 4", "done 7"), ("fresh v", "0"),
             ("read v 4 4", "-", "a", "b"), ("fresh v",), ("read w 0 4", "no view w"), ("fresh w", "no view w"),
+            ("fresh examine", "no view examine"), ("unview open", "no view open"),
             ("read v 0 6", "no windows 0 6 4"), ("read v 8 4", "no windows 8 4 4"), ("read w 8 4", "no view w"),
             ("points load{host=a} 0 9", "1 6", "3 1"), ("points load{host=a} 2 2",), ("points none{} 0 9",),
             ("points load{host=a} 1 3", "1 6"), ("views", "a count of all every 1", "v mean of all every 4 by host"),

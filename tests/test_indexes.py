@@ -104,6 +104,8 @@ class IndexTest(unittest.TestCase):
         check_given(self, InvalidSelection, index.chosen, ALL[0])
         for value in odd_values(str) + ["", "9", "-a", "A", "k" * 25, "a b"]:
             check_given(self, InvalidName, index.words, value)
+            check_given(self, InvalidName, Index().words, value)
+            check_given(self, InvalidName, lambda key: Index().of_tag(key, "a"), value)
             check_given(self, InvalidName, lambda key: index.of_tag(key, "a"), value)
             check_given(self, InvalidName, lambda key: index.of_tag(key, None), value)
         for value in odd_values(str) + ["", "-a", "A", "w" * 25, "a b", "*"]:

@@ -267,6 +267,14 @@ class FreshTest(unittest.TestCase):
         store.do(clock(48))
         self.assertEqual(store.fresh("v"), [8])
 
+    def test_a_clock_at_which_windows_are_told_for_ever(self):
+        store, _ = store_of(FOR_EVER, view("v", "sum of all every 8"), view("w", "sum of all every 4"))
+        store.read_view("v", 0, 16)
+        store.read_view("w", 0, 16)
+        store.do(clock(10 ** 9))
+        # Of the windows of 4 none is told: those that begin at 0 and 8 have the longest grain 1, too.
+        self.assertEqual((store.fresh("v"), store.fresh("w")), ([0, 8], []))
+
     def test_refused_deeds_touch_nothing(self):
         store, _ = self.store(clock(17))
         for deed in (put(3, 1, TWO), take(3, 99, TWO), clock(16), ("put", TWO, 9), unview("w")):
